@@ -1,0 +1,1 @@
+"""Letterhalls: houses whose doors bear letters."""
