@@ -200,6 +200,14 @@ def slow_steps(halls, doors):
     return table
 
 
+def small_houses(most):
+    """All houses of up to so many halls."""
+    for halls in range(1, most + 1):
+        for doors in door_tuples(halls):
+            if all(steps is not None for row in slow_steps(halls, doors) for steps in row):
+                yield halls, doors
+
+
 def slow_symmetries(house):
     """The symmetries of a house, by trial of all rows of its halls."""
     halls, doors = house

@@ -6,7 +6,6 @@ from itertools import permutations
 
 from letterhalls import symmetries as symmetries_file
 from letterhalls.errors import BadHouse, TooMany
-from letterhalls.houses import is_house
 from letterhalls.symmetries import is_symmetry, lots, symmetries
 from tests import samples
 from tests.cases import HouseCase
@@ -53,10 +52,8 @@ class SymmetriesTests(unittest.TestCase):
         self.assertEqual(lots((1, ())), ((0,),))
 
     def test_small_houses_by_trial(self):
-        for halls in [1, 2, 3, 4]:
-            for doors in samples.door_tuples(halls):
-                if is_house((halls, doors)):
-                    self.check_by_trial((halls, doors))
+        for house in samples.small_houses(4):
+            self.check_by_trial(house)
 
     def test_other_houses_by_trial(self):
         for house in samples.HOUSES:
