@@ -22,17 +22,20 @@ def free_groups(house):
 
 def is_free_group(halls, turns):
     """Whether a tuple of symmetries of a house of so many halls is a free group."""
+    return is_group(halls, turns) and not any([leaves_any(turn) for turn in turns[1:]])
+
+
+def is_group(size, turns):
+    """Whether a tuple of turns of so many numbers ascends, the still one and what is behind each other among them."""
     # The still one is the least of all, so it comes first in what is ascending.
-    if not turns or turns[0] != still_turn(halls) or not ascends(turns):
-        return False
-    if any([leaves_any(turn) for turn in turns[1:]]):
+    if not turns or turns[0] != still_turn(size) or not ascends(turns):
         return False
     return all([behind(one, other) in turns for one in turns for other in turns])
 
 
-def still_turn(halls):
-    """The symmetry that leaves all halls."""
-    return tuple(range(halls))
+def still_turn(size):
+    """The turn that leaves all places."""
+    return tuple(range(size))
 
 
 def leaves_any(turn):
@@ -41,7 +44,7 @@ def leaves_any(turn):
 
 
 def behind(one, other):
-    """The symmetry that leads each hall as the one does, and from there as the other behind it."""
+    """The turn that leads each place as the one does, and from there as the other behind it."""
     return tuple([other[hall] for hall in one])
 
 

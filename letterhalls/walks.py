@@ -83,8 +83,15 @@ def hall_behind(ways, hall, row):
 
 def ends_of(ways, row):
     """The ascending tuple of the halls at which a row can end."""
-    ends = [hall_behind(ways, hall, row) for hall in range(len(ways))]
-    return tuple(sorted({end for end in ends if end is not None}))
+    ends = tuple(range(len(ways)))
+    for letter in row:
+        ends = ends_behind(ways, ends, letter)
+    return ends
+
+
+def ends_behind(ways, ends, letter):
+    """The ascending tuple of the halls to which a letter leads from any of some halls."""
+    return tuple(sorted({ways[hall][letter] for hall in ends if letter in ways[hall]}))
 
 
 def counts_behind(doors, counts):
